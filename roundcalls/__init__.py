@@ -1,0 +1,1 @@
+"""Roundcalls: programs that run into their own calls."""

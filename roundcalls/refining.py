@@ -1,35 +1,55 @@
 """Which rows of a sheet write the same value: Hopcroft's refinement of classes of rows."""
 
 
+class Partition:
+    """Classes of rows, numbered from 0 on; at first rows with the same tag are in one class."""
+
+    def __init__(self, rows):
+        tags = {}
+        for tag, _ in rows:
+            tags.setdefault(tag, len(tags))
+        self.class_of = [tags[tag] for tag, _ in rows]
+        self.members = [{} for _ in range(len(tags))]
+        for row, number in enumerate(self.class_of):
+            self.members[number][row] = True
+
+    def by_class(self, rows):
+        """Return a dict from classes to those of the rows that are in them, as the keys of dicts."""
+        found = {}
+        for row in rows:
+            found.setdefault(self.class_of[row], {})[row] = True
+        return found
+
+    def split_off(self, old, hit):
+        """Move either the rows hit of a class or its other rows to a new class; return its number.
+
+        The fewer rows move, so that no row moves often.
+        """
+        moved = hit
+        if 2 * len(hit) > len(self.members[old]):
+            moved = {row: True for row in self.members[old] if row not in hit}
+        number = len(self.members)
+        for row in moved:
+            del self.members[old][row]
+            self.class_of[row] = number
+        self.members.append(moved)
+        return number
+
+
 def row_classes(rows):
     """Return a list with a class number for each row: the same one for rows that write the same value."""
-    classes = tag_classes(rows)
-    members = class_members(classes)
+    partition = Partition(rows)
     above = rows_above(rows)
-    waiting = list(range(len(members)))
+    waiting = list(range(len(partition.members)))
     while waiting:
-        chosen = list(members[waiting.pop()])
+        chosen = list(partition.members[waiting.pop()])
         for uppers in above:
-            hits = classes_hit(chosen, uppers, classes)
+            hits = partition.by_class([upper for row in chosen for upper in uppers[row]])
             for old, hit in hits.items():
-                if len(hit) < len(members[old]):
-                    waiting.append(len(members))
-                    split_off(members, classes, old, hit)
-    return classes
-
-
-def tag_classes(rows):
-    """Return a list with a class number for each row: the same one for rows with the same tag."""
-    numbers = {}
-    return [numbers.setdefault(tag, len(numbers)) for tag, _ in rows]
-
-
-def class_members(classes):
-    """Return a list with, for each class number, a dict whose keys are its rows."""
-    members = [{} for _ in range(max(classes) + 1)]
-    for row, number in enumerate(classes):
-        members[number][row] = True
-    return members
+                # The old class need not wait again: it and the new one together have waited before.
+                if len(hit) < len(partition.members[old]):
+                    waiting.append(partition.split_off(old, hit))
+    return partition.class_of
 
 
 def rows_above(rows):
@@ -40,27 +60,3 @@ def rows_above(rows):
         for at, field in enumerate(fields):
             above[at][field].append(upper)
     return above
-
-
-def classes_hit(chosen, uppers, classes):
-    """Return a dict from classes to those of their rows (as a dict's keys) that lead to a chosen row."""
-    hits = {}
-    for row in chosen:
-        for upper in uppers[row]:
-            hits.setdefault(classes[upper], {})[upper] = True
-    return hits
-
-
-def split_off(members, classes, old, hit):
-    """Move some rows of a class to a new class: the rows hit or the other ones.
-
-    The fewer rows move. So no row moves often, and only the new class needs to be
-    waited for: what it and the old one tell apart together has been told apart before.
-    """
-    moved = hit
-    if 2 * len(hit) > len(members[old]):
-        moved = {row: True for row in members[old] if row not in hit}
-    for row in moved:
-        del members[old][row]
-        classes[row] = len(members)
-    members.append(moved)

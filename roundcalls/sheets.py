@@ -27,11 +27,27 @@ def is_row(counts, size, thing):
 
 def least_sheet(sheet):
     """Return the least sheet of a value."""
-    classes = row_classes(sheet)
-    rows = {}
-    for number, (tag, fields) in zip(classes, sheet):
-        rows[number] = (tag, tuple([classes[field] for field in fields]))
-    return rooted(rows, classes[0])
+    return least_from(sheet, 0)
+
+
+def least_from(rows, root):
+    """Return the least sheet of the value whose root is the row of this number."""
+    merged, classes = merged_rows(rows)
+    return rooted(merged, classes[root])
+
+
+def merged_rows(rows):
+    """Return a dict of rows by number, no two of which write the same value, and the new number of each row."""
+    classes = row_classes(rows)
+    merged = {}
+    for number, (tag, fields) in zip(classes, rows):
+        merged[number] = (tag, tuple([classes[field] for field in fields]))
+    return merged, classes
+
+
+def moved_rows(sheet, offset):
+    """Return the rows of a sheet as a list, for a place behind so many other rows."""
+    return [(tag, tuple([field + offset for field in fields])) for tag, fields in sheet]
 
 
 def rooted(rows, root):

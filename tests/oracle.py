@@ -82,3 +82,36 @@ def parting(sheet, other, depth):
         if path in theirs and mine[path] != theirs[path]:
             return path
     return None
+
+
+def rerooted(sheet, row):
+    """The sheet in which a row and row 0 have changed places: it writes the part of that row."""
+    moved = [row if at == 0 else 0 if at == row else at for at in range(len(sheet))]
+    return tuple((sheet[at][0], tuple(moved[field] for field in sheet[at][1])) for at in moved)
+
+
+def top(sheet, depth, row=0):
+    """The top to a depth of the part of a row."""
+    if depth < 0:
+        return None
+    tag, fields = sheet[row]
+    return tag, tuple(top(sheet, depth - 1, field) for field in fields)
+
+
+def all_tops(signature, depth):
+    """Every top of a value of the signature to a depth."""
+    fields = all_tops(signature, depth - 1) if depth > 0 else [None]
+    counts = dict(signature, void=0)
+    return [(tag, item) for tag in sorted(counts) for item in itertools.product(fields, repeat=counts[tag])]
+
+
+def rewritings(sheet):
+    """Other sheets that write the same value: rows in another order, rows twice, rows that cannot be reached."""
+    size = len(sheet)
+    turned = [0] + list(range(size - 1, 0, -1))
+    doubled = [(tag, tuple(field + size for field in fields)) for tag, fields in sheet]
+    return [
+        tuple((sheet[at][0], tuple(turned[field] for field in sheet[at][1])) for at in turned),
+        tuple(doubled) + sheet,
+        sheet + (("void", ()),) + sheet[:1],
+    ]

@@ -40,8 +40,8 @@ def part_within(node, other):
     """Return whether some path leads from both nodes to nodes of the top whose tags differ."""
     waiting = [(node, other)]
     while waiting:
-        (tag, fields), (match, others) = waiting.pop()
-        if tag != match:
+        (tag, fields), (other_tag, others) = waiting.pop()
+        if tag != other_tag:
             return True
         waiting.extend([pair for pair in zip(fields, others) if None not in pair])
     return False

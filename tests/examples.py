@@ -6,6 +6,21 @@ TURNS = (("cons", (1, 2)), ("one", ()), ("cons", (3, 0)), ("two", ()))
 SHORT = (("cons", (1, 2)), ("two", ()), ("end", ()))
 LONG = (("cons", (2, 1)), ("cons", (2, 0)), ("one", ()))
 
+A, B = ("part", "a"), ("part", "b")
+ONE, TWO = ("tag", "one", ()), ("tag", "two", ())
+REST = ("call", "swap", (B,))
+SWAP = ("if", ("is", A, "one"), ("tag", "cons", (TWO, REST)), ("tag", "cons", (ONE, REST)))
+MAKERS = ("make", (("swap", ("x",), 0, ("case", "x", (("cons", ("a", "b"), SWAP),), ("part", "x"))),))
+EVERY = ("case", "a", (("one", (), ("call", "every", (B,))),), ("no",))
+SOME = ("case", "a", (("two", (), ("yes",)),), ("call", "some", (B,)))
+EVERY_ONE = ("every", ("x",), 0, ("case", "x", (("cons", ("a", "b"), EVERY),), ("yes",)))
+SOME_TWO = ("some", ("x",), 1, ("case", "x", (("cons", ("a", "b"), SOME),), ("no",)))
+TESTS = ("test", (EVERY_ONE, SOME_TWO))
+ITEMS = ("case", "x", (("cons", ("a", "b"), ("union", ("root", "a"), ("call", "items", (B,)))),), ("none",))
+FAR = ("case", "a", (("two", (), ("number", 0)),), ("plus", 1, ("call", "far", (B,))))
+MEASURES = ("measure", (("far", ("x",), 0, ("case", "x", (("cons", ("a", "b"), FAR),), ("never",))),))
+PROGRAM = (SIGN, (MAKERS, TESTS, ("gather", (("items", ("x",), 0, ITEMS),)), MEASURES))
+
 
 def nested(depth, kind):
     thing = kind()

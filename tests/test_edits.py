@@ -153,7 +153,8 @@ class ReplaceEverywhereTest(Edits):
             ("cons", (1, 2)), ("two", ()), ("cons", (1, 3)), ("end", ()),
         ))
         self.assertEqual(replace_everywhere(TURNS, ONE, TURNS), least_sheet((
-            ("cons", (2, 1)), ("cons", (6, 0)), ("cons", (3, 4)), ("one", ()), ("cons", (6, 2)), ("void", ()), ("two", ()),
+            ("cons", (2, 1)), ("cons", (6, 0)), ("cons", (3, 4)), ("one", ()), ("cons", (6, 2)), ("void", ()),
+            ("two", ()),
         )))
 
     def test_same_by_the_same(self):
@@ -217,7 +218,7 @@ class RenameTagsTest(Edits):
         self.assertEqual(rename_tags(sheet, one="two"), (("cons", (1, 2)), ("void", ()), ("two", ())))
 
     def test_names_like_others_in_the_code(self):
-        for name in ["tags", "tag", "fields", "self", "rows", "if", "class", "none", "print", "other", "args", "kwargs"]:
+        for name in "tags tag fields self rows if class none print other part path args kwargs".split():
             self.assertEqual(rename_tags(ONES, **{"one": name}), (("cons", (1, 0)), (name, ())))
             sheet = (("cons", (1, 0)), (name, ()))
             self.assertEqual(rename_tags(sheet, **{name: "one"}), ONES)

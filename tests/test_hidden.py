@@ -185,7 +185,9 @@ class UntoldHoldsTest(unittest.TestCase):
         self.assertIs(untold_holds(SIGN, 2, oracle.top(ONES, 2), ((), (0,), (1, 0))), False)
 
     def test_no_nodes(self):
-        for path in [(2,), (-1,), (-2,), (0, 0), (1, 2), (1, -1), (1, 1, 0), (1, 0, 0), (10 ** 39,)]:
+        for path in [
+            (2,), (-1,), (-2,), (0, 0), (1, 2), (1, -1), (1, 1, 0), (1, 1, 0, 0), (1, 0, 0), (1, 0, 0, 0), (10 ** 39,),
+        ]:
             self.assertIs(untold_holds(SIGN, 2, TOP, ((), (0,), path)), False, path)
 
     def test_fields_of_other_kinds(self):

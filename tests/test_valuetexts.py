@@ -113,7 +113,8 @@ class ParseValueTest(unittest.TestCase):
                 self.check_none(SIGN, text[:at] + mark + text[at:])
 
     def test_numbers(self):
-        for number in ["00", "01", "-1", "+1", "2", "10", "9" * 40, "9" * 1900, "0" * 40, "1_0", "0x1", "1.0", "", "one"]:
+        for number in ["00", "01", "-1", "+1", "2", "10", "9" * 40, "9" * 1900, "0" * 40, "1_0", "0x1", "1.0", "",
+        "one"]:
             self.check_none(SIGN, f"cons 1 {number}; one")
         ring = tuple(("b", ((at + 1) % 12,)) for at in range(11)) + (("c", (11, 0)),)
         text = format_value(ring)
@@ -154,6 +155,7 @@ class ParseValueTest(unittest.TestCase):
         self.check_none(oracle.SMALL_SIGN, "b 0; " * 400 + "b 0")
         self.check_none(SIGN, "one " * 500)
         self.check_none(SIGN, "; " * 1000)
+        self.check_none(SIGN, "cons 1 " + "9" * 9000 + "; one")
 
     def test_by_name(self):
         self.assertEqual(parse_value(signature=SIGN, text="one"), (("one", ()),))

@@ -62,3 +62,14 @@ def parts_inside(kind, part):
         elif slot == "branches":
             found.extend([(kind, (at, number, 2), branch[2]) for number, branch in enumerate(item)])
     return found
+
+
+def parts_of(kind, part):
+    """Return all terms, conditions and bodies in a part, itself included."""
+    found = []
+    waiting = [(kind, part)]
+    while waiting:
+        inner, item = waiting.pop()
+        found.append(item)
+        waiting.extend([(within, below) for within, _, below in parts_inside(inner, item)])
+    return found

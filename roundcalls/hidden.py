@@ -2,7 +2,7 @@
 
 from itertools import combinations
 
-from roundcalls.kinds import is_index
+from roundcalls.kinds import is_ascending, is_index, is_row_of
 from roundcalls.paths import row_at
 from roundcalls.sameness import parting_path
 from roundcalls.sheets import least_sheet
@@ -49,13 +49,14 @@ def part_within(node, other):
 
 def untold_holds(signature, n, top, thing):
     """Return whether a value is n + 1 ascending paths of at most n steps to nodes that part within the top."""
-    if not isinstance(thing, tuple) or len(thing) != n + 1:
+    if not is_row_of(thing, n + 1):
         return False
     nodes = [node_at(top, path) for path in thing]
     if None in nodes or not all([len(path) <= n for path in thing]):
         return False
-    ordered = all([(len(thing[at]), thing[at]) < (len(thing[at + 1]), thing[at + 1]) for at in range(n)])
-    return ordered and all([part_within(node, other) for node, other in combinations(nodes, 2)])
+    if not is_ascending([(len(path), path) for path in thing]):
+        return False
+    return all([part_within(node, other) for node, other in combinations(nodes, 2)])
 
 
 def node_at(top, thing):

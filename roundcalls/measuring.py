@@ -6,29 +6,39 @@ from roundcalls.settledbodies import callers
 
 
 def priced(system):
-    """Return the price of each call of a system of measures, None for never.
+    """Return the price of each call of a system of measures, None for never."""
+    prices, _ = priced_in_order(system)
+    return prices
+
+
+def priced_in_order(system):
+    """Return (prices, numbers) for a system of measures: each price is made of those with lesser numbers.
 
     A price is never less than the prices that it is made of. So the least one of those that
     can be made of the prices found is the next one found.
     """
     prices = [None for _ in system]
+    numbers = [0 for _ in system]
+    many = 0
     users = callers(system)
     queue = []
-    for number, body in enumerate(system):
-        offer(queue, number, price_of(body, prices))
+    for call, body in enumerate(system):
+        offer(queue, call, price_of(body, prices))
     while queue:
-        price, number = heappop(queue)
-        if prices[number] is None:
-            prices[number] = price
-            for user in users[number]:
+        price, call = heappop(queue)
+        if prices[call] is None:
+            prices[call] = price
+            numbers[call] = many
+            many = many + 1
+            for user in users[call]:
                 offer(queue, user, price_of(system[user], prices))
-    return prices
+    return prices, numbers
 
 
-def offer(queue, number, price):
+def offer(queue, call, price):
     """Put a price of a call, if it is not never, into the queue of those that may be the least ones."""
     if price is not None:
-        heappush(queue, (price, number))
+        heappush(queue, (price, call))
 
 
 def price_of(body, prices):

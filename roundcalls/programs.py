@@ -1,7 +1,7 @@
 """The form of programs, asked of values of any kind."""
 
 from roundcalls.forms import MOST_NUMBER, MOST_PARAMS, MOST_RANK, SLOTS, SORTS, WORDS, parts_inside
-from roundcalls.kinds import is_index, is_pair
+from roundcalls.kinds import is_ascending, is_index, is_pair, is_row_of
 from roundcalls.signatures import is_name, is_signature
 
 
@@ -38,7 +38,7 @@ def is_group(thing):
 
 def is_function(sort, thing):
     """Return whether a value is a function of a sort: a name, parameters, a rank and a body."""
-    if not isinstance(thing, tuple) or len(thing) != 4:
+    if not is_row_of(thing, 4):
         return False
     name, params, rank, body = thing
     if not is_name(name) or not are_names(params) or not 1 <= len(params) <= MOST_PARAMS:
@@ -92,9 +92,9 @@ def are_branches(thing):
     """Return whether a value is a tuple of triples (tag, names, whatever it is), ascending by distinct tags."""
     if not isinstance(thing, tuple) or not all([is_branch(branch) for branch in thing]):
         return False
-    return all([thing[at][0] < thing[at + 1][0] for at in range(len(thing) - 1)])
+    return is_ascending([branch[0] for branch in thing])
 
 
 def is_branch(thing):
     """Return whether a value is a triple of a tag, distinct names and whatever it is."""
-    return isinstance(thing, tuple) and len(thing) == 3 and is_name(thing[0]) and are_names(thing[1])
+    return is_row_of(thing, 3) and is_name(thing[0]) and are_names(thing[1])

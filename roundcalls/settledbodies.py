@@ -54,6 +54,12 @@ def numbered(body, numbers):
     return tuple([numbered(item, numbers) if isinstance(item, tuple) else item for item in body])
 
 
+def system_of(bodies, calls):
+    """Return the system of the settled bodies of some calls, numbered in their order, given a dict of the bodies."""
+    numbers = {call: number for number, call in enumerate(calls)}
+    return [numbered(bodies[call], numbers) for call in calls]
+
+
 def callers(system):
     """Return, for each number of a call in a system of settled bodies, a list of those whose bodies have it."""
     found = [{} for _ in system]

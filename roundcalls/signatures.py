@@ -1,6 +1,6 @@
 """Names and signatures: the tags of values and how many fields they have."""
 
-from roundcalls.kinds import is_index, is_pair
+from roundcalls.kinds import is_ascending, is_index, is_pair
 
 LETTERS = "abcdefghijklmnopqrstuvwxyz"
 LONGEST_NAME = 8
@@ -19,7 +19,7 @@ def is_signature(thing):
     """Return whether a value is a tuple of pairs (tag, count), ascending by their tags."""
     if not isinstance(thing, tuple) or not all([is_tag_count(item) for item in thing]):
         return False
-    return all([thing[at][0] < thing[at + 1][0] for at in range(len(thing) - 1)])
+    return is_ascending([tag for tag, _ in thing])
 
 
 def is_tag_count(thing):

@@ -8,8 +8,16 @@ def top(sheet, depth):
     """Return the top of a value to a depth: pairs (tag, tops of the fields), None where a node is deeper."""
     tops = [None for _ in sheet]
     for _ in range(depth + 1):
-        tops = [(tag, tuple([tops[field] for field in fields])) for tag, fields in sheet]
+        tops = tops_of_rows(sheet, tops)
     return tops[0]
+
+
+def tops_of_rows(sheet, below):
+    """Return the tops of the parts of all rows, to a depth greater by one than that of the given ones.
+
+    Those to the depth 0 come from None for each row.
+    """
+    return [(tag, tuple([below[field] for field in fields])) for tag, fields in sheet]
 
 
 def is_top(signature, depth, thing):

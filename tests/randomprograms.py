@@ -21,7 +21,7 @@ class Maker:
         self.most_params = most_params
         self.depth = depth
 
-    def program(self, groups=None, sorts=SORTS):
+    def program(self, groups=None, sorts=SORTS, most=None):
         self.signature = self.chance.choice(SIGNATURES[self.chance.random() < 0.95:])
         self.counts = dict(self.signature, void=0)
         names = self.chance.sample(NAMES, 20)
@@ -30,7 +30,7 @@ class Maker:
         for _ in range(groups or self.chance.randint(1, 5)):
             self.sort = self.chance.choice(sorts)
             heads = []
-            for _ in range(self.chance.randint(1, 4 if groups == 1 else 2)):
+            for _ in range(self.chance.randint(1, most or (4 if groups == 1 else 2))):
                 params = tuple(self.chance.sample(NAMES, self.chance.randint(1, self.most_params)))
                 heads.append((names.pop(), params, self.chance.randint(0, 9) if self.sort == "test" else 0))
             self.own = [(self.sort, name, len(params)) for name, params, _ in heads]

@@ -40,6 +40,11 @@ UNUSED_WORDS = set(
     "type vars typing typing_extensions enum Enum IntEnum StrEnum Flag IntFlag Generic Protocol ABC ABCMeta "
     "namedtuple NamedTuple TypedDict TYPE_CHECKING abstractmethod sys".split()
 )
+# Builtin values have methods of these names, or they are named in the rules: no attribute is called so.
+BARRED_ATTRIBUTES = set(
+    "items keys values pop update append clear extend insert remove reverse setdefault sort args encode decode hex "
+    "fromhex format format_map mro as_integer_ratio bit_count conjugate from_bytes is_integer to_bytes".split()
+)
 PLAIN_NAME = re.compile(r"^(_|_?[A-Za-z][A-Za-z0-9_]*|__(init|eq|repr|str|len|iter|call|enter|exit)__)$")
 BARRED_NAME = re.compile(
     r"^(_wall|_pe_|_dcw_|_enum_|_cm_|_twin_re_|_lay_|_law_|_stub_|_sre"
@@ -143,6 +148,24 @@ class LanguageTest(unittest.TestCase):
             self.assertRegex(node.attr, PLAIN_NAME, place)
             self.assertNotRegex(node.attr, BARRED_NAME, place)
             self.assertNotIn(node.attr, UNUSED_WORDS, place)
+
+    def test_attributes_that_are_assigned(self):
+        for place, node in nodes(ast.Attribute):
+            if isinstance(node.ctx, ast.Store):
+                self.assertNotIn(node.attr, BARRED_ATTRIBUTES, place)
+                self.assertIsInstance(node.value, ast.Name, place)
+        for place, node in nodes(ast.ClassDef):
+            methods = {item.name for item in node.body if isinstance(item, ast.FunctionDef)}
+            stored = {inner.attr for inner in ast.walk(node)
+                      if isinstance(inner, ast.Attribute) and isinstance(inner.ctx, ast.Store)}
+            self.assertEqual(methods & stored, set(), place)
+
+    def test_generators_share_their_names_with_nothing(self):
+        names = [node.name for _, node in nodes(ast.FunctionDef)]
+        for place, node in nodes(ast.FunctionDef):
+            if any(isinstance(inner, (ast.Yield, ast.YieldFrom)) for inner in ast.walk(node)):
+                self.assertEqual(names.count(node.name), 1, place)
+                self.assertNotIn(node.name, METHODS, place)
 
     def test_names_bound_once_in_a_file(self):
         for path, tree in trees():

@@ -4,7 +4,8 @@ import random
 import unittest
 
 from roundcalls.answers import Answers
-from roundcalls.games import believed
+from roundcalls.falling import do_fall, falling_numbers
+from roundcalls.games import believed, decided
 from roundcalls.gathering import gathered
 from roundcalls.making import made_rows
 from roundcalls.measuring import priced
@@ -71,6 +72,25 @@ class SystemsTest(unittest.TestCase):
             most = chance.choice([1, 3, 9])
             ranks = [chance.randint(0, most) for _ in system]
             self.assertEqual(believed(system, ranks), winners(system, ranks), (system, ranks))
+
+    def test_plans(self):
+        chance = random.Random(13)
+        for at in range(400):
+            size = chance.randint(1, 60)
+            depth, most = chance.randint(0, 4), chance.choice([1, 3, 9])
+            system = [random_body(chance, size, depth, ["and", "or"], [YES, NO]) for _ in range(size)]
+            ranks = [chance.randint(0, most) for _ in system]
+            winners, plans = decided(system, ranks)
+            for answer in (True, False):
+                # The plans and numbers show who wins, whoever found them.
+                won = {call: plans[call] for call in range(size) if winners[call] is answer}
+                numbers = falling_numbers(won, ranks, answer)
+                for mine, used in won.items():
+                    self.assertLessEqual(set(used), set(won))
+                    true = {(other,): (other in used) == answer for other in range(size)}
+                    self.assertIs(truth(system[mine], true), answer)
+                    for other in used:
+                        self.assertTrue(do_fall(numbers[mine], numbers[other], ranks[mine], answer))
 
     def test_gatherers(self):
         constants = [("tags", ()), ("tags", ("a",)), ("tags", ("b", "c")), ("tags", ("void",))]

@@ -183,6 +183,13 @@ class ClaimsTest(unittest.TestCase):
         self.check(("no value", SIGN, top(TURNS, 1), 2, PARTING), False)
         # With n = 1 the top is the root alone, and some value of one part has it only if it has no fields or loops.
         self.check(("no value", SIGN, ("cons", (None, None)), 1, ((), (0,))), False)
+        # Six parts that part from one another, told of a top to depth 8: but n goes to 4 only.
+        six = tuple(("cons", (6 if at % 6 else 7, (at + 1) % 6)) for at in range(6)) + (("one", ()), ("two", ()))
+        paths = tuple((1,) * steps for steps in range(6))
+        self.assertIs(untold_holds(SIGN, 5, top(six, 8), paths), True)
+        self.check(("no value", SIGN, top(six, 8), 5, paths), False)
+        self.check(("no value", SIGN, None, 0, ((),)), False)
+        self.check(("no value", SIGN, top(six, 0), True, ((), (0,))), False)
         chance = random.Random(6)
         for _ in range(200):
             size = chance.randint(1, 6)

@@ -257,6 +257,9 @@ class ErrorsTest(unittest.TestCase):
             "f x rank 0 = (case x (cons a b) (and (call f a) (or (call k b) (call k a))) else (no))",
             "f x rank 0 = (case x (cons a b) (and (or (no) (and (yes) (call k b))) (or (call k b) (yes))) else (no))",
             "f x rank 0 = (case x (cons a b) (or (no) (ask e a)) else (no))",
+            "f x rank 0 = (case x (cons a b) (or (ask e a) (no)) else (no))",
+            "f x rank 0 = (case x (cons a b) (and (if (is a one) (yes) (no)) (call f b)) else (no))",
+            "f x rank 0 = (case x (cons a b) (or (and (no) (case a else (no))) (call f b)) else (no))",
             "f x rank 0 = (case x (cons a b) (or (no) (call g a a)) else (no))\ng x y rank 0 = (yes)",
             "f x rank 0 = (case x (cons a b) (and (no) (call g a)) else (no))\ng x rank 0 = (yes)",
             "f x rank 0 = (case x (cons a b) (or (yes) (call g a)) else (no))\n"
